@@ -1,0 +1,1 @@
+"""Leafpress: books of boxes, laid on leaves."""
