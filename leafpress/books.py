@@ -133,19 +133,21 @@ def hangs_right(nodes, number):
     elder = nodes[number][ELDER]
     if number == 0:
         return elder == -1
-    above = number - 1
-    while above != -1 and above != elder:
-        above = nodes[above][ELDER]
-    return above != -1
+    return elder == number - 1 or elder in elders_of(nodes, number - 1)
 
 
 def level_of(book, node):
-    level = 0
+    return len(elders_of(book, node))
+
+
+# The nodes above a node, the nearest one first.
+def elders_of(book, node):
+    elders = []
     above = book[node][ELDER]
     while above != -1:
-        level += 1
+        elders.append(above)
         above = book[above][ELDER]
-    return level
+    return elders
 
 
 # The fault of what a node holds.

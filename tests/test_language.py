@@ -28,6 +28,9 @@ FORMS = (
     ast.ListComp, ast.comprehension, ast.JoinedStr, ast.FormattedValue, ast.Name, ast.Lambda, ast.expr_context,
     ast.operator, ast.unaryop, ast.boolop, ast.cmpop,
 )
+WALKED = ["zip", "enumerate", "reversed", "range"]
+WALKED_METHODS = ["items", "keys", "values"]
+WALKERS = ["list", "tuple", "dict", "sorted", "sum", "any", "all", "enumerate", "zip", "min", "max"]
 PLAIN = (ast.Constant, ast.List, ast.Tuple, ast.Dict, ast.Name, ast.UnaryOp, ast.USub, ast.expr_context)
 
 
@@ -63,6 +66,34 @@ def bound_names(tree):
             yield one, one.arg
         elif isinstance(one, (ast.FunctionDef, ast.ClassDef)):
             yield one, one.name
+
+
+def calls(one, names):
+    return isinstance(one, ast.Call) and isinstance(one.func, ast.Name) and one.func.id in names
+
+
+def is_walk(one):
+    if isinstance(one, ast.Call) and isinstance(one.func, ast.Attribute):
+        return one.func.attr in WALKED_METHODS
+    return calls(one, WALKED)
+
+
+def walked_on_the_spot(one):
+    """The parts of a form that it walks at once."""
+    if isinstance(one, (ast.For, ast.comprehension)):
+        return [one.iter]
+    if calls(one, WALKERS):
+        return one.args if one.func.id == "zip" else one.args[:1]
+    if isinstance(one, ast.Call) and isinstance(one.func, ast.Attribute) and one.func.attr == "join":
+        return one.args
+    return []
+
+
+def asked_on_the_spot(one):
+    """The parts of a form that may be a set."""
+    if isinstance(one, ast.Compare):
+        return [one.left] + one.comparators
+    return one.args if calls(one, ["sorted", "len"]) else []
 
 
 class Language(unittest.TestCase):
@@ -152,6 +183,32 @@ class Language(unittest.TestCase):
                 self.assertTrue(name == "__init__" or not name.startswith("_"), where)
                 self.assertFalse(hasattr(builtins, name), where)
                 self.assertNotIn(name, NAMES_OUT, where)
+
+    def test_no_name_hides_an_import_or_a_class(self):
+        for path, tree in trees():
+            classes = [one.name for one in tree.body if isinstance(one, ast.ClassDef)]
+            imports = [alias.asname or alias.name
+                       for one in tree.body if isinstance(one, ast.ImportFrom) for alias in one.names]
+            for one, name in bound_names(tree):
+                if one not in tree.body:
+                    self.assertNotIn(name, classes + imports, f"{path.name}:{one.lineno}")
+
+    def test_lists_at_the_top_hold_no_lists(self):
+        for path, tree in trees():
+            for one in tree.body:
+                if isinstance(one, ast.Assign):
+                    kept = [part for part in ast.walk(one.value) if isinstance(part, (ast.List, ast.Dict))]
+                    self.assertTrue(kept in ([], [one.value]), f"{path.name}:{one.lineno}")
+
+    def test_walks_and_sets_are_not_kept(self):
+        for path, tree in trees():
+            walked = [part for one in ast.walk(tree) for part in walked_on_the_spot(one)]
+            asked = [part for one in ast.walk(tree) for part in asked_on_the_spot(one)]
+            for one in ast.walk(tree):
+                where = f"{path.name}:{getattr(one, 'lineno', 0)}"
+                self.assertTrue(not is_walk(one) or one in walked, where)
+                self.assertTrue(not (calls(one, ["set", "frozenset"]) or isinstance(one, ast.Set)) or one in asked,
+                                where)
 
     def test_names_of_python(self):
         for where, one in self.each():
