@@ -4,7 +4,9 @@ from leafpress.books import ELDER
 from leafpress.rules import HANDED_DOWN, PROPERTIES, RANK, SETS, UNTOLD, count_conditions, fits
 
 # The places in a row of a paper.
+NODE = 0
 WORD = 1
+WHY = 2
 VALUE = 3
 
 
@@ -12,15 +14,12 @@ def winners(book, rules):
     paper = []
     for node in range(len(book)):
         fitting = [number for number, rule in enumerate(rules) if fits(book, rule, node)]
-        for place, word in enumerate(PROPERTIES):
+        for word in PROPERTIES:
             winner = winner_of(rules, fitting, word)
-            if winner is not None:
-                paper.append((node, word, ("rule", winner), dict(rules[winner][SETS])[word]))
-            elif word in HANDED_DOWN and node > 0:
-                elder = book[node][ELDER]
-                paper.append((node, word, ("elder", elder), paper[elder * len(PROPERTIES) + place][VALUE]))
+            if winner is None:
+                paper.append((node, word) + untold_of(book, paper, node, word))
             else:
-                paper.append((node, word, ("own",), UNTOLD[word]))
+                paper.append((node, word, ("rule", winner), dict(rules[winner][SETS])[word]))
     return paper
 
 
@@ -32,6 +31,14 @@ def winner_of(rules, fitting, word):
 
 def precedence(rules, number):
     return (rules[number][RANK], count_conditions(rules[number]), number)
+
+
+# Why and value where no rule tells the property, of a paper that has the rows of the elder already.
+def untold_of(book, paper, node, word):
+    if word not in HANDED_DOWN or node == 0:
+        return (("own",), UNTOLD[word])
+    elder = book[node][ELDER]
+    return (("elder", elder), paper[elder * len(PROPERTIES) + PROPERTIES.index(word)][VALUE])
 
 
 def looks_of(paper):

@@ -3,6 +3,15 @@
 import copy
 import unittest
 
+from leafpress.books import MAY_HOLD
+from leafpress.faces import made_face
+from leafpress.reader import read_book
+from leafpress.rules import PROPERTIES
+
+KINDS = ["body", "case", "shelf", "grid", "text", "head", "picture", "aside", "note"]
+UNTOLD = [0, 0, 0, 0, 1, 0, 4000, 2, 1, 1, 0, 100, 0]
+BOUNDS = [(0, 99), (0, 3), (0, 400), (0, 400), (1, 9), (0, 4000), (0, 4000), (1, 6), (1, 6), (1, 4), (0, 1), (1, 4000),
+          (0, 1)]
 
 def word(text="go", tone=0):
     return ("word", text, tone)
@@ -51,6 +60,68 @@ def rich_nodes():
 def deep_nodes():
     """A book whose last node stands on level 6."""
     return [node(number - 1, "case" if number else "body") for number in range(6)] + [node(5, "text")]
+
+
+def plain_looks(many, told=None):
+    """Looks of so many nodes as no rule tells them, but for what is told: {node: {property: value}}."""
+    looks = [list(UNTOLD) for k in range(many)]
+    for number, values in (told or {}).items():
+        for name, value in values.items():
+            looks[number][PROPERTIES.index(name)] = value
+    return looks
+
+
+def any_rows(chance, kind, level):
+    """The rows of a node of a kind and of what it holds, by chance."""
+    marks = "".join(" ." + mark for mark in "klm" if chance.randrange(3) == 0)
+    pieces = ["go", "Word", "ill-fit,", "*a", "**bee", "***b.", "{}", "{one}", "*{two}", "***{one}", "**{three}"]
+    stuff, held = "", []
+    if kind == "picture":
+        stuff = f" | {chance.randint(1, 90)} {chance.randint(1, 90)}"
+    elif kind in ("text", "head", "note"):
+        stuff = " | " + " ".join(chance.choice(pieces) for k in range(chance.choice([1, 2, 3, 6, 12])))
+        held = ["note"] * chance.choice([0, 0, 0, 1, 2]) if kind != "note" else []
+    elif level < 6:
+        kinds = [one for one in MAY_HOLD[kind] for k in range(3 if one == "aside" else 1)]
+        held = [chance.choice(kinds) for k in range(chance.choice([1, 2, 2, 3, 4, 6]))]
+    rows = [">" * level + kind + marks + stuff]
+    for one in held:
+        rows.extend(any_rows(chance, one, level + 1))
+        if one == "aside":
+            rows.extend(any_rows(chance, "text", level + 1))
+    return rows
+
+
+def any_book(chance):
+    """A book of any tree; the reader mends what was cut off or has no room."""
+    return read_book(any_rows(chance, "body", 0)[:chance.choice([1, 5, 12, 30, 60])])[0]
+
+
+def any_rule(chance):
+    sets = [(PROPERTIES[place], chance.randint(*BOUNDS[place]))
+            for place in chance.sample(range(13), chance.choice([1, 3, 13]))]
+    return (chance.randrange(3), chance.choice(KINDS + [""] * 9), chance.choice(KINDS + [""] * 9),
+            chance.choice(["k", "m", "", ""]), sets)
+
+
+def any_looks(chance, many):
+    """Looks within all bounds, small values being more likely than great ones."""
+    looks = []
+    for k in range(many):
+        spread = chance.choice([1, 3, 30, 4000])
+        looks.append([chance.randint(low, min(high, low + spread)) for low, high in BOUNDS])
+        if chance.randrange(2) == 0:
+            looks[-1][PROPERTIES.index("most")] = 4000
+    return looks
+
+
+def any_faces(chance):
+    faces = []
+    for k in range(chance.randint(1, 8)):
+        odd = chance.sample("aeo.?0123456789", chance.randrange(6))
+        faces.append(made_face(chance.randint(1, 30), chance.randint(0, 9), chance.randint(1, 12),
+                               [(sign, chance.randint(1, 20)) for sign in odd]))
+    return faces
 
 
 class Untouched(unittest.TestCase):

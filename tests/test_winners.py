@@ -2,15 +2,12 @@ import random
 import unittest
 
 from leafpress.books import made_book
-from leafpress.reader import read_book
 from leafpress.rules import PROPERTIES, look_at, made_rules
 from leafpress.winners import looks_of, winners
-from tests.helpers import Untouched, body, deep_nodes, lists_in, node, note_piece, rich_nodes, share_a_list, word
-
-UNTOLD = [0, 0, 0, 0, 1, 0, 4000, 2, 1, 1, 0, 100, 0]
-BOUNDS = [(0, 99), (0, 3), (0, 400), (0, 400), (1, 9), (0, 4000), (0, 4000), (1, 6), (1, 6), (1, 4), (0, 1), (1, 4000),
-          (0, 1)]
-KINDS = ["body", "case", "shelf", "grid", "text", "head", "picture", "aside", "note"]
+from tests.helpers import (
+    BOUNDS, UNTOLD, Untouched, any_book, any_rule, body, deep_nodes, lists_in, node, note_piece, rich_nodes, share_a_list,
+    word,
+)
 
 
 class Papers(Untouched):
@@ -159,21 +156,6 @@ class Winners(Papers):
 class AnyWinners(Papers):
     """Papers of many books and rules, looked over row by row."""
 
-    def book(self, chance):
-        rows = []
-        for k in range(chance.choice([1, 5, 20, 60])):
-            kind = chance.choice(KINDS)
-            stuff = {"picture": " | 1 2", "text": " | a", "head": " | a", "note": " | a"}.get(kind, "")
-            marks = "".join(" ." + mark for mark in "klm" if chance.randrange(3) == 0)
-            rows.append(">" * chance.randrange(7) + kind + marks + stuff)
-        return read_book(rows)[0]
-
-    def rule(self, chance):
-        sets = [(PROPERTIES[place], chance.randint(*BOUNDS[place]))
-                for place in chance.sample(range(13), chance.choice([1, 3, 13]))]
-        return (chance.randrange(3), chance.choice(KINDS + [""] * 9), chance.choice(KINDS + [""] * 9),
-                chance.choice(["k", "m", "", ""]), sets)
-
     def fitting(self, book, rules, number, name):
         """Those rules that fit and set a property, as (rank, conditions, number, value), the winner last."""
         above, elder = [], book[number][0]
@@ -190,8 +172,8 @@ class AnyWinners(Papers):
     def test_row_by_row(self):
         for seed in range(60):
             chance = random.Random(seed)
-            book = self.book(chance)
-            rules = [self.rule(chance) for k in range(chance.choice([0, 1, 5, 20, 40]))]
+            book = any_book(chance)
+            rules = [any_rule(chance) for k in range(chance.choice([0, 1, 5, 20, 40]))]
             paper = self.paper(book, rules)
             looks = looks_of(paper)
             for number, name, why, value in paper:
