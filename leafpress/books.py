@@ -179,3 +179,14 @@ def holds(book, node):
     if not 0 <= node < len(book):
         raise NoNode(f"there is no node {node}")
     return [number for number, other in enumerate(book) if other[ELDER] == node]
+
+
+# The aside that a text stands next to, None where there is none, and for other kinds.
+def aside_ahead(book, node):
+    if book[node][KIND] != "text":
+        return None
+    held = holds(book, book[node][ELDER])
+    place = held.index(node)
+    if place == 0 or book[held[place - 1]][KIND] != "aside":
+        return None
+    return held[place - 1]

@@ -2,7 +2,7 @@
 
 from leafpress.books import KIND, KINDS_OF_PIECES, STUFF, holds
 from leafpress.rules import look_at
-from leafpress.units import UNIT_BLANK, UNIT_WIDE
+from leafpress.units import UNIT_WIDE, row_length
 
 # The places in bounds.
 LOW = 0
@@ -23,7 +23,7 @@ def node_bounds(book, looks, units, bounds, node):
     if kind == "picture":
         return (book[node][STUFF][0], book[node][STUFF][0])
     if kind in KINDS_OF_PIECES:
-        return with_insets(looks, node, units_low(units[node]), units_great(units[node]))
+        return with_insets(looks, node, units_low(units[node]), row_length(units[node]))
     held = holds(book, node)
     if kind == "shelf":
         low = sum([floor_of(looks, bounds, one) for one in held])
@@ -44,10 +44,6 @@ def with_insets(looks, node, low, great):
 
 def units_low(units):
     return max([unit[UNIT_WIDE] for unit in units])
-
-
-def units_great(units):
-    return sum([unit[UNIT_WIDE] for unit in units]) + sum([unit[UNIT_BLANK] for unit in units[:-1]])
 
 
 # How narrow one that a shelf holds may be.

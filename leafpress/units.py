@@ -51,3 +51,8 @@ def printed(piece, shown):
 
 def rows_high(units):
     return max([unit[UNIT_HIGH] for unit in units])
+
+
+# How long the units of one row are: blanks stand between them alone.
+def row_length(units):
+    return sum([unit[UNIT_WIDE] for unit in units]) + sum([unit[UNIT_BLANK] for unit in units[:-1]])

@@ -124,6 +124,19 @@ def any_faces(chance):
     return faces
 
 
+def units_of(*wides, blank=0, high=10):
+    """Units of such widths; a unit told as a tuple has its own blank, too."""
+    told = [one if isinstance(one, tuple) else (one, blank) for one in wides]
+    return [(wide, own, high, piece, []) for piece, (wide, own) in enumerate(told)]
+
+
+def any_units(chance, many):
+    """Units as in a book, or, at times, without any width."""
+    least, most, blank = chance.choice([0, 1, 1, 1]), chance.choice([1, 2, 5, 40]), chance.choice([0, 1, 3, 9])
+    return [(chance.randint(least, most), chance.randint(0, blank), chance.randint(1, 30), piece, [])
+            for piece in range(many)]
+
+
 class Untouched(unittest.TestCase):
     """Tests that look whether what is handed in stays as it was."""
 
